@@ -1,0 +1,1 @@
+"""Shelfcounts: shelves counted while goods come and go."""
