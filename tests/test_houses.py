@@ -4,7 +4,7 @@ import unittest
 
 from shelfcounts.errors import NoEntry, NoHouse, NoMove, NoName, TooMany, Twice
 from shelfcounts.houses import entry_called, house_of, with_entry, with_turned, without_entry
-from tests.helper import PLACES, drawn_house, nested, whatever
+from tests.helper import PLACES, drawn_house, looks, nested, whatever
 
 COME = ("come", "ab", 5, "oil", "left", 3, 2)
 MOVE = ("move", "ac", 5, "oil", "left", "right", 3)
@@ -15,12 +15,6 @@ LOOK = ("look", "aab", 5, "rice", "left")
 EARLY = ("count", "zz", 4, "rice", "right", 0, "bob")
 LATE = ("swap", "b", 6, "right", "left")
 ORDERED = (EARLY, SWAP, SOME, COME, MOVE, COUNT, LOOK, LATE)
-
-
-def looks(count):
-    """So many looks, of rising names and moments."""
-    names = ["".join(letters) for letters in itertools.product("abcdef", repeat=2)][:count]
-    return [("look", name, at, "oil", "left") for at, name in enumerate(names)]
 
 
 class HouseOfTest(unittest.TestCase):
