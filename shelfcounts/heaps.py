@@ -1,13 +1,13 @@
 """Heaps of pieces that hang together, and the rows of those that are shut."""
 
 from shelfcounts.entries import good_of, places_of
-from shelfcounts.pieces import pieces, ties
+from shelfcounts.pieces import balances_of, pieces, ties
 from shelfcounts.tracks import along_tracks
 
 
 def heaps(house, good):
     """The rows (pieces, sum, shut) of all heaps of the good, rising by pieces."""
-    balances = {row[0]: row[4] for row in pieces(house, good)}
+    balances = balances_of(house, good)
     led = ties(house, good)
     firsts = first_pieces(list(balances), led)
     # Each tie has a piece at one end at least.

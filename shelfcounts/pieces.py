@@ -50,6 +50,11 @@ def name_of(entry):
     return entry[1]
 
 
+def balances_of(house, good):
+    """A dict from all pieces of the good, rising, to their balances."""
+    return {row[0]: row[4] for row in pieces(house, good)}
+
+
 def ties(house, good):
     """The rows (tie, out, into) of all ties of the good, rising; None is the outside."""
     rows = pieces(house, good)

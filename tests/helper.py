@@ -1,12 +1,23 @@
-"""What several tests need: things of all kinds, and houses made by numbers drawn from a seed."""
+"""What several tests need: things of all kinds, spoilt papers, and houses made by numbers drawn from a seed."""
 
 import itertools
 import random
+from fractions import Fraction
 
 from shelfcounts.houses import house_of
+from shelfcounts.pieces import pieces, ties
 
 PLACES = ("back", "cellar", "front", "left", "right", "yard")
 GOODS = ("oil", "rice", "salt")
+
+# Its ties of oil are begin a, begin b, look e, now a, now b, some d.
+MIXED = house_of(("a", "b"), ("oil", "rice"), [
+    ("count", "c", 1, "oil", "a", 3, "ann"),
+    ("some", "d", 2, "oil", "a", "b"),
+    ("look", "e", 3, "oil", "b"),
+    ("count", "f", 4, "oil", "a", 5, "ann"),
+    ("go", "g", 4, "oil", "b", 4),
+])
 
 
 def nested(kind, depth):
@@ -77,6 +88,14 @@ def drawn_entry(draw, word, name, places, goods):
     if word == "count":
         return (word, name, moment, good, one, draw.randint(0, 9), draw.choice(["ann", "bob"]))
     return (word, name, moment, good, one)
+
+
+def fitting_house(seed):
+    """A drawn house whose counts tell what stood in a walk with this seed, so that no good clashes."""
+    house = drawn_house(seed)
+    for good in house[1]:
+        house = (house[0], house[1], tuple(Walk(house, good, seed, True).entries))
+    return house
 
 
 def looks(count, good="oil", place="left"):
@@ -178,3 +197,95 @@ class Walk:
         box.inside.append(entry[1])
         if told:
             box.balance -= many
+
+
+def places_in(thing):
+    """All things within a thing of lists and tuples, itself first, each with what puts another one in its place."""
+    yield thing, lambda other: other
+    if isinstance(thing, (list, tuple)):
+        for at, part in enumerate(thing):
+            for inner, put in places_in(part):
+                yield inner, (lambda other, at=at, put=put:
+                              type(thing)([*thing[:at], put(other), *thing[at + 1:]]))
+
+
+def of_other_kinds(thing):
+    """The thing with one place of another kind: as Python compares, many of them are the same as it."""
+    found = []
+    for part, put in places_in(thing):
+        others = [None, "", [part], (part,), {"a": part}, nested("list", 50), nested("tuple", 50)]
+        if isinstance(part, bool):
+            others += [int(part), str(part)]
+        elif isinstance(part, int):
+            others += [str(part), part == 1]
+        elif isinstance(part, list):
+            others += [tuple(part), dict(enumerate(part)), True, 0]
+        elif isinstance(part, tuple):
+            others += [list(part), dict(enumerate(part)), True, 0]
+        else:
+            others += [True, 0]
+        found.extend(put(other) for other in others if repr(other) != repr(part))
+    return found
+
+
+def reshaped(thing):
+    """The thing with a part of a list or tuple more, fewer, twice, or two of them exchanged."""
+    found = []
+    for part, put in places_in(thing):
+        if isinstance(part, (list, tuple)):
+            kind = type(part)
+            for at in range(len(part)):
+                found.append(put(kind([*part[:at], *part[at + 1:]])))
+                found.append(put(kind([*part[:at + 1], *part[at:]])))
+                found.append(put(kind([*part[:at], *part[at + 1:at + 2], part[at], *part[at + 2:]])))
+                found.append(put(kind([*part[at:], *part[:at]])))
+            found.append(put(kind([*part, part[0] if part else None])))
+            found.append(put(kind(part[::-1])))
+            found.append(put(kind([])))
+    return [other for other in found if other != thing]
+
+
+def null_vectors(house, good):
+    """Amounts, with parts, that add nothing at any piece: all of them are sums of many times these.
+
+    The rows of numbers are those of the asked sums, one for each piece, brought to steps as in school.
+    """
+    led = ties(house, good)
+    rows = [[Fraction((into == piece) - (out == piece)) for tie, out, into in led] for piece in all_pieces(house, good)]
+    heads = stepped(rows, len(led))
+    found = []
+    for free in [at for at in range(len(led)) if at not in heads]:
+        vector = [Fraction(0)] * len(led)
+        vector[free] = Fraction(1)
+        for row, head in zip(rows, heads):
+            vector[head] = -row[free]
+        found.append(vector)
+    return found
+
+
+def all_pieces(house, good):
+    return [row[0] for row in pieces(house, good)]
+
+
+def stepped(rows, width):
+    """Brings the rows to steps, each first number 1 and alone in its column; tells these columns."""
+    heads = []
+    for column in range(width):
+        step = len(heads)
+        found = [at for at in range(step, len(rows)) if rows[at][column] != 0]
+        if found:
+            rows[step], rows[found[0]] = rows[found[0]], rows[step]
+            rows[step] = [number / rows[step][column] for number in rows[step]]
+            for at in range(len(rows)):
+                if at != step and rows[at][column] != 0:
+                    rows[at] = [number - rows[at][column] * above for number, above in zip(rows[at], rows[step])]
+            heads.append(column)
+    return heads
+
+
+def solvable(house, good):
+    """Whether any amounts, with parts, are as it is asked."""
+    led = ties(house, good)
+    rows = [[Fraction((into == piece) - (out == piece)) for tie, out, into in led] + [Fraction(balance)]
+            for piece, opened, closed, inside, balance in pieces(house, good)]
+    return len(led) not in stepped(rows, len(led) + 1)
