@@ -98,6 +98,13 @@ def fitting_house(seed):
     return house
 
 
+def small_house(seed):
+    """A drawn house of at most twelve entries."""
+    places, goods, entries = drawn_house(seed)
+    draw = random.Random(seed)
+    return house_of(places, goods, draw.sample(entries, min(len(entries), draw.randint(6, 12))))
+
+
 def looks(count, good="oil", place="left"):
     """So many looks, of rising names and moments."""
     names = ["".join(letters) for letters in itertools.product("abcdef", repeat=2)][:count]
@@ -281,6 +288,12 @@ def stepped(rows, width):
                     rows[at] = [number - rows[at][column] * above for number, above in zip(rows[at], rows[step])]
             heads.append(column)
     return heads
+
+
+def rank_at(vectors, columns):
+    """How many of these columns of the vectors hang on none of the others."""
+    rows = [[vector[column] for column in columns] for vector in vectors]
+    return len(stepped(rows, len(columns)))
 
 
 def solvable(house, good):
