@@ -118,6 +118,16 @@ def with_moment(entry, moment):
     return entry[:2] + (moment,) + entry[3:]
 
 
+def with_name(entry, name):
+    """The entry with another name."""
+    return entry[:1] + (name,) + entry[2:]
+
+
+def with_good(entry, good):
+    """The entry, no swap, with another good."""
+    return entry[:3] + (good,) + entry[4:]
+
+
 def with_places(entry, places):
     """The entry with other places, as many as it names, in its order."""
     start = 3 if entry[0] == "swap" else 4

@@ -302,3 +302,25 @@ def solvable(house, good):
     rows = [[Fraction((into == piece) - (out == piece)) for tie, out, into in led] + [Fraction(balance)]
             for piece, opened, closed, inside, balance in pieces(house, good)]
     return len(led) not in stepped(rows, len(led) + 1)
+
+
+def drawn_deeds(seed, many=40, closings=True):
+    """Places, goods, and deeds for a state of them: entries of few names, some written down twice, names taken back."""
+    draw = random.Random(seed)
+    places = PLACES[:draw.randint(2, 4)]
+    goods = GOODS[:draw.randint(1, 3)]
+    words = ["come", "go", "move", "some", "swap", "count", "count", "count", "look"]
+    names = draw.sample([one + other for one in "abcdefgh" for other in "abcdefgh"], 25)
+    deeds = []
+    for number in range(many):
+        chance = draw.random()
+        written = [deed for deed in deeds if deed[0] == "enter"]
+        if chance < 0.1 and written:
+            deeds.append(draw.choice(written))
+        elif chance < 0.25:
+            deeds.append(("back", draw.choice(names)))
+        elif chance < 0.32 and closings:
+            deeds.append(("close", draw.randint(0, 9), draw.choice(["refuse", "up"])))
+        else:
+            deeds.append(("enter", drawn_entry(draw, draw.choice(words), draw.choice(names), places, goods)))
+    return places, goods, deeds
