@@ -1,6 +1,7 @@
 """Books: what stands at a place by the last count and what was moved behind it."""
 
 from shelfcounts.entries import change_at, good_of, places_of
+from shelfcounts.houses import many_up_to
 from shelfcounts.tracks import along_tracks, track_at
 
 
@@ -12,7 +13,7 @@ def book_behind(house, good, place, at):
 
 def book_at(house, good, place, moment):
     """The book of the good at the place at the moment, or None."""
-    return book_behind(house, good, place, len([entry for entry in house[2] if entry[2] <= moment]))
+    return book_behind(house, good, place, many_up_to(house, moment))
 
 
 def last_counted(told, good, track):

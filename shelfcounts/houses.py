@@ -48,6 +48,11 @@ def in_order(entries):
     return tuple(sorted(entries, key=order_of))
 
 
+def many_up_to(house, moment):
+    """How many entries there are up to this moment, its own, too."""
+    return len([entry for entry in house[2] if entry[2] <= moment])
+
+
 def entry_called(house, name):
     """The entry of this name, whatever is handed in as name."""
     for entry in house[2]:

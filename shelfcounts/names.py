@@ -14,3 +14,8 @@ def is_name(thing):
 def is_whole(thing):
     """Whether it is a whole number: Python takes truths for such, this program does not."""
     return isinstance(thing, int) and not isinstance(thing, bool)
+
+
+def are_rising(things):
+    """Whether each of these goes behind the one ahead of it, as Python compares."""
+    return all(low < high for low, high in zip(things, things[1:]))

@@ -1,13 +1,13 @@
 """Sides: rising lists of pieces, and the ties that lead over their edge."""
 
-from shelfcounts.names import is_whole
+from shelfcounts.names import are_rising, is_whole
 
 
 def is_side(thing, balances):
     """Whether it is a rising list of pieces, of whatever thing; the keys of balances are all pieces."""
     if not isinstance(thing, list) or not all(is_piece(part, balances) for part in thing):
         return False
-    return all(low < high for low, high in zip(thing, thing[1:]))
+    return are_rising(thing)
 
 
 def is_piece(thing, balances):

@@ -6,6 +6,7 @@ from fractions import Fraction
 
 from shelfcounts.houses import house_of
 from shelfcounts.pieces import pieces, ties
+from shelfcounts.states import closed_by, entered, taken_back
 
 PLACES = ("back", "cellar", "front", "left", "right", "yard")
 GOODS = ("oil", "rice", "salt")
@@ -324,3 +325,39 @@ def drawn_deeds(seed, many=40, closings=True):
         else:
             deeds.append(("enter", drawn_entry(draw, draw.choice(words), draw.choice(names), places, goods)))
     return places, goods, deeds
+
+
+def state_behind(state, deed):
+    """The state behind a deed."""
+    if deed[0] == "enter":
+        return entered(state, deed[1])
+    if deed[0] == "back":
+        return taken_back(state, deed[1])
+    return closed_by(state, *deed[1:])
+
+
+def done_by(keeper, deed):
+    """What the keeper tells of a deed."""
+    if deed[0] == "enter":
+        return keeper.enter(deed[1])
+    if deed[0] == "back":
+        return keeper.back(deed[1])
+    return keeper.close(*deed[1:])
+
+
+def spoilt_texts(text, signs=" \na-0:+[]().z"):
+    """The text with a sign more, fewer, twice, another one, or two exchanged, likewise with words and with lines."""
+    found = ["", text + text, text + "\n" + text, text + " " + text]
+    for at in range(len(text) + 1):
+        for sign in signs:
+            found += [text[:at] + sign + text[at:], text[:at] + sign + text[at + 1:]]
+        found += [text[:at] + text[at + 1:], text[:at], text[at:], text[:at] + text[at:at + 1] + text[at:]]
+        found.append(text[:at] + text[at + 1:at + 2] + text[at:at + 1] + text[at + 2:])
+    for parting in (" ", "\n"):
+        parts = text.split(parting)
+        for at in range(len(parts)):
+            found.append(parting.join(parts[:at] + parts[at + 1:]))
+            found.append(parting.join(parts[:at + 1] + parts[at:]))
+            found.append(parting.join(parts[:at] + parts[at + 1:at + 2] + parts[at:at + 1] + parts[at + 2:]))
+            found.append(parting.join(parts[at:] + parts[:at]))
+    return sorted(set(found))

@@ -6,8 +6,8 @@ from shelfcounts.errors import Closed, CountError, NoDay, NoEntry, NoHouse, NoNa
 from shelfcounts.heaps import shut_rows
 from shelfcounts.houses import house_of
 from shelfcounts.keeper import Keeper
-from shelfcounts.states import closed_by, entered, house_now, late_ones, start, taken_back
-from tests.helper import drawn_deeds, drawn_house, looks, whatever
+from shelfcounts.states import house_now, late_ones, start
+from tests.helper import done_by, drawn_deeds, drawn_house, looks, state_behind, whatever
 
 PLACES = ("left", "right")
 GOODS = ("oil", "rice")
@@ -16,14 +16,6 @@ COME = ("come", "b", 200, "oil", "left", 3, 10)
 AGAIN = ("count", "c", 300, "oil", "left", 7, "bob")
 LOOK = ("look", "d", 250, "oil", "left")
 SWAP = ("swap", "e", 260, "left", "right")
-
-
-def say(keeper, deed):
-    if deed[0] == "enter":
-        return keeper.enter(deed[1])
-    if deed[0] == "back":
-        return keeper.back(deed[1])
-    return keeper.close(*deed[1:])
 
 
 def rows_of(house):
@@ -35,14 +27,6 @@ def all_told(keeper):
     many = len(keeper.rows())
     return copy.deepcopy([keeper.house(), keeper.late(), keeper.rows(), keeper.clashing(),
                           [keeper.then(number) for number in range(many + 1)]])
-
-
-def doing(state, deed):
-    if deed[0] == "enter":
-        return entered(state, deed[1])
-    if deed[0] == "back":
-        return taken_back(state, deed[1])
-    return closed_by(state, *deed[1:])
 
 
 class KeeperTest(unittest.TestCase):
@@ -108,11 +92,11 @@ class KeeperTest(unittest.TestCase):
         deeds = [("enter", COUNT), ("enter", COUNT), ("back", "z"), ("back", "z"), ("close", 0, "up"), ("enter", COME),
                  ("close", 5, "refuse")]
         for deed in deeds:
-            say(self.keeper, deed)
+            done_by(self.keeper, deed)
         self.assertEqual(self.keeper.rows(), deeds)
         for refused in (("enter", ("look", "q", 1, "oil", "left")), ("enter", None), ("back", 7), ("close", 5, "up"),
                         ("close", 6, "down"), ("back", "a")):
-            self.assertRaises(CountError, say, self.keeper, refused)
+            self.assertRaises(CountError, done_by, self.keeper, refused)
         self.assertEqual(self.keeper.rows(), deeds)
         self.assertEqual(self.keeper.then(7), self.keeper.house())
 
@@ -167,13 +151,13 @@ class KeeperTest(unittest.TestCase):
             for deed in deeds:
                 ahead = rows_of(house_now(states[-1]))
                 try:
-                    states.append(doing(states[-1], deed))
+                    states.append(state_behind(states[-1], deed))
                 except CountError as refusal:
-                    self.assertRaises(type(refusal), say, keeper, deed)
+                    self.assertRaises(type(refusal), done_by, keeper, deed)
                     continue
                 done.append(deed)
                 behind = rows_of(house_now(states[-1]))
-                self.assertEqual(say(keeper, deed), (sorted(ahead - behind), sorted(behind - ahead)))
+                self.assertEqual(done_by(keeper, deed), (sorted(ahead - behind), sorted(behind - ahead)))
                 changed += ahead != behind
             self.assertEqual(keeper.rows(), done)
             self.assertEqual([keeper.then(many) for many in range(len(done) + 1)], [house_now(state) for state in states])
@@ -234,7 +218,7 @@ class KeeperTest(unittest.TestCase):
             for deed in deeds:
                 for keeper in (alone, one):
                     try:
-                        say(keeper, deed)
+                        done_by(keeper, deed)
                     except CountError:
                         pass
                 try:

@@ -28,6 +28,8 @@ NAMES = set("""
     copyright credits delattr dir eval exec exit gc getattr globals hasattr help id importlib license locals
     methodcaller os quit setattr super type vars sys
 """.split())
+# Those that a generator expression may stand in, beside the join of a literal.
+TAKERS = ("list", "tuple", "dict", "sorted", "sum", "min", "max", "any", "all")
 BARRED = (ast.Global, ast.AsyncFunctionDef, ast.AsyncFor, ast.AsyncWith, ast.Await, ast.Import, ast.Div, ast.MatMult)
 
 
@@ -65,6 +67,15 @@ def own_methods():
             if isinstance(node, ast.ClassDef):
                 found |= {part.name for part in node.body if isinstance(part, ast.FunctionDef)}
     return found
+
+
+def called_name(node):
+    """The name that is called, None where it isn't a call of a name."""
+    return node.func.id if isinstance(node, ast.Call) and isinstance(node.func, ast.Name) else None
+
+
+def is_join_of_literal(node):
+    return isinstance(node, ast.Attribute) and node.attr == "join" and isinstance(node.value, ast.Constant)
 
 
 def of_each_file(check):
@@ -169,6 +180,25 @@ class LanguageTest(unittest.TestCase):
                 self.assertIn(node.id, BUILTINS)
             if isinstance(node, ast.Call) and isinstance(node.func, ast.Attribute):
                 self.assertIn(node.func.attr, METHODS | own_methods())
+
+    @of_each_file
+    def test_generators_and_sets_stand_where_they_may(self, text, tree):
+        for holder in ast.walk(tree):
+            for node in ast.iter_child_nodes(holder):
+                if isinstance(node, ast.GeneratorExp):
+                    self.assertIsInstance(holder, ast.Call)
+                    self.assertTrue(called_name(holder) in TAKERS or is_join_of_literal(holder.func), ast.unparse(holder))
+                if isinstance(node, ast.SetComp) or (isinstance(node, ast.Call) and called_name(node) == "set"):
+                    self.assertTrue(isinstance(holder, ast.Compare) or called_name(holder) in ("len", "sorted"))
+
+    def test_no_name_is_a_method_and_an_attribute(self):
+        attributes = set()
+        for path in FILES:
+            for node in ast.walk(ast.parse(path.read_text())):
+                if isinstance(node, ast.Attribute) and isinstance(node.ctx, ast.Store):
+                    attributes.add(node.attr)
+        self.assertEqual(attributes & own_methods(), set())
+        self.assertEqual(attributes & METHODS, set())
 
 
 if __name__ == "__main__":

@@ -7,7 +7,7 @@ from shelfcounts.errors import Closed, CountError, NoDay, NoEntry, NoHouse, NoNa
 from shelfcounts.houses import house_of
 from shelfcounts.names import is_name
 from shelfcounts.states import closed_by, entered, house_now, late_ones, start, taken_back
-from tests.helper import drawn_deeds, whatever
+from tests.helper import drawn_deeds, state_behind, whatever
 
 PLACES = ("left", "right")
 GOODS = ("oil", "rice")
@@ -27,18 +27,10 @@ def done(state, deeds):
     """The state behind the deeds, those that are refused left out."""
     for deed in deeds:
         try:
-            state = do(state, deed)
+            state = state_behind(state, deed)
         except CountError:
             pass
     return state
-
-
-def do(state, deed):
-    if deed[0] == "enter":
-        return entered(state, deed[1])
-    if deed[0] == "back":
-        return taken_back(state, deed[1])
-    return closed_by(state, *deed[1:])
 
 
 def names_of(many):
@@ -391,9 +383,9 @@ class DrawnDeedsTest(unittest.TestCase):
                 expected = log.do(deed)
                 seen[expected] = seen.get(expected, 0) + 1
                 if expected is None:
-                    state = do(state, deed)
+                    state = state_behind(state, deed)
                 else:
-                    self.assertRaises(expected, do, state, deed)
+                    self.assertRaises(expected, state_behind, state, deed)
                 self.assertEqual(state, log.state(places, goods))
             stands = log.stands().values()
             self.assertEqual(house_now(state), house_of(places, goods, [e[:2] + (m,) + e[3:] for e, m in stands]))
@@ -410,10 +402,10 @@ class DrawnDeedsTest(unittest.TestCase):
             for deed in deeds:
                 expected = log.do(deed)
                 if expected is None:
-                    state = do(state, deed)
+                    state = state_behind(state, deed)
                 else:
                     seen += 1
-                    self.assertRaises(expected, do, state, deed)
+                    self.assertRaises(expected, state_behind, state, deed)
                 self.assertEqual(state, log.state(places, goods))
         self.assertGreater(seen, 100)
 
@@ -427,7 +419,7 @@ class DrawnDeedsTest(unittest.TestCase):
                 draw.shuffle(mixed)
                 state = start(places, goods)
                 for deed in mixed:
-                    state = do(state, deed)
+                    state = state_behind(state, deed)
                 self.assertEqual(state, first)
 
     def test_closed_days_never_change(self):

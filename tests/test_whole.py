@@ -1,10 +1,12 @@
 """What the document promises over the whole program."""
 
+import itertools
 import random
 import unittest
 
 from shelfcounts.books import below, book_behind, differences
 from shelfcounts.clashes import clash_of, clashes, shows_clash
+from shelfcounts.desk import Desk
 from shelfcounts.errors import CountError, NoFilling
 from shelfcounts.fewest import fewest, shows_fewest
 from shelfcounts.fillings import filling, is_filling
@@ -14,11 +16,16 @@ from shelfcounts.houses import with_entry, without_entry
 from shelfcounts.keeper import Keeper
 from shelfcounts.known import shows_free, shows_known, told
 from shelfcounts.lots import cost_of, lots_behind, taken_by, worth_behind
+from shelfcounts.paperreader import read_told
 from shelfcounts.pieces import ties
+from shelfcounts.reader import read_house
 from shelfcounts.settling import causes, least_lot
 from shelfcounts.stocks import stock_now
+from shelfcounts.texts import entry_text, house_text, row_text
+from shelfcounts.tracks import track_at
 from shelfcounts.trees import holds
-from tests.helper import drawn_deeds, drawn_entry, drawn_house, fitting_house, small_house
+from tests.helper import (
+    all_pieces, done_by, drawn_deeds, drawn_entry, drawn_house, fitting_house, reshaped, small_house, solvable)
 
 
 def all_told(house):
@@ -41,15 +48,22 @@ def keeper_of(places, goods, deeds):
     keeper = Keeper(places, goods)
     for deed in deeds:
         try:
-            if deed[0] == "enter":
-                keeper.enter(deed[1])
-            elif deed[0] == "back":
-                keeper.back(deed[1])
-            else:
-                keeper.close(*deed[1:])
+            done_by(keeper, deed)
         except CountError:
             pass
     return keeper
+
+
+def sides_of(members):
+    """All rising lists of these pieces."""
+    return [list(side) for many in range(len(members) + 1) for side in itertools.combinations(members, many)]
+
+
+def answer_or_refusal(desk, row):
+    try:
+        return desk.say(row)
+    except CountError as refusal:
+        return type(refusal)
 
 
 class WholeTest(unittest.TestCase):
@@ -130,6 +144,72 @@ class WholeTest(unittest.TestCase):
                         self.assertFalse(shows_known(house, good, tie, paper[1] + 1, paper[2]))
                     else:
                         self.assertTrue(shows_free(house, good, tie, paper[1]))
+
+    def test_whatever_paper_is_let_by_what_it_says_is_so(self):
+        shown = clashed = 0
+        for seed in range(60):
+            house = small_house(seed)
+            for good in house[1]:
+                members = all_pieces(house, good)[:7]
+                fitting = solvable(house, good)
+                amounts = dict(zip([row[0] for row in ties(house, good)], filling(house, good))) if fitting else {}
+                for side in sides_of(members):
+                    if shows_clash(house, good, side):
+                        self.assertFalse(fitting)
+                        clashed += 1
+                    for tie, amount in amounts.items():
+                        shown += shows_known(house, good, tie, amount, side)
+                        for other in (amount + 1, -amount, 0):
+                            self.assertFalse(other != amount and shows_known(house, good, tie, other, side))
+        self.assertGreater(min(shown, clashed), 50)
+
+    def test_whatever_tree_holds_what_it_says_is_so(self):
+        held = 0
+        for seed in range(40):
+            house = small_house(seed)
+            paper = least_lot(house)
+            wanted = 3 if paper[0] == "more" else len(paper[1])
+            for tree in ([] if paper[-1] is None else [paper[-1], *reshaped(paper[-1])[:300]]):
+                for many in range(3):
+                    if holds(house, tree, many):
+                        self.assertLess(many, wanted)
+                        held += 1
+        self.assertGreater(held, 20)
+
+    def test_papers_told_at_a_desk_can_be_looked_through(self):
+        known = free = 0
+        for seed in range(40):
+            house = fitting_house(seed)
+            desk = Desk(house_text((house[0], house[1], ())))
+            for entry in sorted(house[2]):
+                desk.say("enter " + entry_text(entry))
+            self.assertEqual(read_house(desk.say("house")), house)
+            for good in house[1]:
+                for place in house[0]:
+                    paper = read_told(desk.say(f"now {good} {place}"))
+                    tie = ("now", track_at(house, place, len(house[2])))
+                    known += paper[0] == "known" and shows_known(house, good, tie, *paper[1:])
+                    free += paper[0] == "free" and shows_free(house, good, tie, paper[1])
+        self.assertGreater(min(known, free), 20)
+        self.assertEqual(known + free, sum(len(house[0]) * len(house[1]) for house in map(fitting_house, range(40))))
+
+    def test_a_desk_answers_by_what_stands_alone(self):
+        for seed in range(20):
+            places, goods, deeds = drawn_deeds(seed, 30, False)
+            start = house_text((places, goods, ()))
+            first, second = Desk(start), Desk(start)
+            for deed in deeds:
+                first.say(row_text(deed))
+            for line in reversed(first.say("house").split("\n")[2:]):
+                second.say("enter " + line)
+                second.say("enter " + line)
+            rows = ["house", "late", "clashing", "causes", "hands"]
+            for good in goods:
+                rows += [f"shut {good}", f"again {good}", f"worth {good} 300"]
+                rows += [f"{word} {good} {place}{moment}" for place in places
+                         for word, moment in (("now", ""), ("at", " 300"), ("book", " 300"))]
+            for row in rows:
+                self.assertEqual(answer_or_refusal(first, row), answer_or_refusal(second, row))
 
     def test_no_lesser_lot_and_no_fewer_places(self):
         for seed in range(30):
